@@ -1,0 +1,1 @@
+"""Ownfill: programs that put one text into templates."""
