@@ -1,52 +1,90 @@
 """[2] and the interface: names, arguments and the places where they are defined."""
 
 import doctest
+import importlib
 import inspect
 import pathlib
 import unittest
 
-from ownfill import templates, turns
+from ownfill import comparing, conditions, machines, patterns, rooms, templates, turns
+from ownfill.machines import Machine
 from ownfill.templates import Template
 
+MODULES = [turns, templates, rooms, machines, comparing, patterns, conditions]
+TWO = "(one, other)"
 FUNCTIONS = {
-    "check_letters": "(letters)", "check_text": "(letters, text)", "is_turn": "(letters, turn)",
-    "turned": "(letters, turn, text)", "after": "(letters, one, other)", "undone": "(letters, turn)",
-    "order_of": "(letters, turn)", "turns_made": "(letters, turns)", "kept_letters": "(letters, one, other)",
+    "turns": {
+        "check_letters": "(letters)", "check_text": "(letters, text)", "is_turn": "(letters, turn)",
+        "turned": "(letters, turn, text)", "after": "(letters, one, other)", "undone": "(letters, turn)",
+        "order_of": "(letters, turn)", "turns_made": "(letters, turns)", "kept_letters": "(letters, one, other)",
+    },
+    "comparing": {
+        "difference": "(one, other, text)", "compared": "(one, other, text)", "comparison": TWO, "equal_texts": TWO,
+        "begins_texts": TWO, "ends_texts": TWO, "less_texts": TWO,
+    },
+    "machines": {
+        "mapped": "(machine, answers)", "joined": TWO, "repeated": "(machine)", "mirrored": "(machine)",
+    },
+    "patterns": {"pattern_machine": "(letters, pattern)"},
+    "conditions": {
+        "parse_condition": "(letters, text)", "format_condition": "(condition)", "condition_names": "(condition)",
+        "condition_machine": "(letters, condition)", "condition_holds": "(letters, condition, text)",
+    },
 }
 METHODS = {
-    "__init__": "(self, letters, text)", "row": "(self)", "parts": "(self)", "text": "(self)", "fill": "(self, text)",
-    "length": "(self, size)", "put": "(self, other)", "turned": "(self, turn)", "mirrored": "(self)",
-    "__add__": "(self, other)", "__eq__": "(self, other)", "__len__": "(self)", "__str__": "(self)",
-    "__repr__": "(self)",
+    Template: {
+        "__init__": "(self, letters, text)", "row": "(self)", "parts": "(self)", "text": "(self)",
+        "fill": "(self, text)", "length": "(self, size)", "put": "(self, other)", "turned": "(self, turn)",
+        "mirrored": "(self)", "__add__": "(self, other)", "__eq__": "(self, other)", "__len__": "(self)",
+        "__str__": "(self)", "__repr__": "(self)",
+    },
+    Machine: {
+        "__init__": "(self, letters, rows, answers)", "rows": "(self)", "answers": "(self)", "answer": "(self, text)",
+        "texts": "(self, answer, *, many=10)", "least_text": "(self, answer)", "count": "(self, answer, size)",
+        "__and__": "(self, other)", "__or__": "(self, other)", "__invert__": "(self)", "__eq__": "(self, other)",
+        "__len__": "(self)", "__repr__": "(self)",
+    },
 }
-CLASS_METHODS = {"fixed": "(cls, letters, text)", "blank": "(cls, letters, *, turn=None)"}
-PROPERTIES = ["letters", "blanks", "size"]
+CLASS_METHODS = {
+    Template: {"fixed": "(cls, letters, text)", "blank": "(cls, letters, *, turn=None)"},
+    Machine: {"always": "(cls, letters)", "never": "(cls, letters)", "only": "(cls, letters, text)"},
+}
+PROPERTIES = {Template: ["letters", "blanks", "size"], Machine: ["letters"]}
+HOMES = {Template: "ownfill.templates", Machine: "ownfill.machines"}
 
-EXAMPLE = """
+EXAMPLES = """
 >>> from ownfill.templates import Template
 >>> one = Template('ab', 'a{}b{ba}')
 >>> [one.fill('aab'), one.put(Template('ab', '{}a')).text(), one.parts()]
 ['aaabbbba', 'a{}ab{ba}b', [('text', 'a'), ('blank', 'ab'), ('text', 'b'), ('blank', 'ba')]]
+
+>>> from ownfill.comparing import comparison, equal_texts
+>>> one, other = Template('ab', 'ab{}'), Template('ab', '{}ab')
+>>> [comparison(one, other).answer('b'), list(equal_texts(one, other).texts(True, many=4))]
+['less', ['', 'ab', 'abab', 'ababab']]
 """
 
 
 class Interface(unittest.TestCase):
-    def test_functions_of_turns(self):
-        for name, wanted in FUNCTIONS.items():
-            function = getattr(turns, name)
-            self.assertEqual((name, str(inspect.signature(function))), (name, wanted))
-            self.assertEqual(function.__module__, "ownfill.turns")
+    def test_functions(self):
+        for name, functions in FUNCTIONS.items():
+            module = importlib.import_module("ownfill." + name)
+            for function, wanted in functions.items():
+                found = getattr(module, function)
+                self.assertEqual((function, str(inspect.signature(found))), (function, wanted))
+                self.assertEqual(found.__module__, "ownfill." + name)
 
-    def test_template_has_its_own_methods(self):
-        self.assertEqual(Template.__module__, "ownfill.templates")
-        own = vars(Template)
-        for name, wanted in METHODS.items():
-            self.assertEqual((name, str(inspect.signature(own[name]))), (name, wanted))
-        for name, wanted in CLASS_METHODS.items():
-            self.assertIsInstance(own[name], classmethod)
-            self.assertEqual((name, str(inspect.signature(own[name].__func__))), (name, wanted))
-        for name in PROPERTIES:
-            self.assertIsInstance(own[name], property)
+    def test_classes_have_their_own_methods(self):
+        for made, methods in METHODS.items():
+            self.assertEqual(made.__module__, HOMES[made])
+            own = vars(made)
+            for name, wanted in methods.items():
+                self.assertEqual((name, str(inspect.signature(own[name]))), (name, wanted))
+            for name, wanted in CLASS_METHODS[made].items():
+                self.assertIsInstance(own[name], classmethod)
+                self.assertEqual((name, str(inspect.signature(own[name].__func__))), (name, wanted))
+            for name in PROPERTIES[made]:
+                self.assertIsInstance(own[name], property)
 
     def run_examples(self, text, name):
         examples = doctest.DocTestParser().get_doctest(text, {}, name, name, 0)
@@ -54,18 +92,18 @@ class Interface(unittest.TestCase):
         runner = doctest.DocTestRunner(verbose=False)
         self.assertEqual(runner.run(examples).failed, 0)
 
-    def test_the_example_of_the_document(self):
-        self.run_examples(EXAMPLE, "DOC.md")
+    def test_the_examples_of_the_document(self):
+        self.run_examples(EXAMPLES, "DOC.md")
 
     def test_the_examples_of_the_readme(self):
         readme = pathlib.Path(__file__).parent.parent / "README.md"
         self.run_examples(readme.read_text(encoding="utf-8").replace("```", ""), "README.md")
 
-    def test_the_modules_keep_no_state(self):
-        for module in (turns, templates):
+    def test_the_modules_keep_no_lists(self):
+        for module in MODULES:
             for name, value in vars(module).items():
                 if not name.startswith("__"):
-                    self.assertNotIsInstance(value, (list, dict, set), name)
+                    self.assertNotIsInstance(value, (list, set), name)
 
 
 if __name__ == "__main__":

@@ -17,6 +17,15 @@ WORDS = re.compile(r"\b(type|typing|typing_extensions|enum|Enum|IntEnum|StrEnum|
                    r"|ABCMeta|namedtuple|NamedTuple|TypedDict|TYPE_CHECKING|abstractmethod)\b"
                    r"|dataclass|overload|contextmanager")
 NEVER = set("register mro elements open input law version_info with_traceback add_note format format_map".split())
+METHODS = set("""
+append clear copy count endswith extend find get index insert isalnum isalpha isdigit islower isspace isupper items
+join keys ljust lower lstrip partition pop remove replace reverse rfind rjust rpartition rsplit rstrip setdefault
+split splitlines startswith strip update upper values zfill bit_length add discard sort
+""".split())
+CHANGING = set("append clear extend insert pop remove reverse setdefault update sort add discard".split())
+WHOLE_LISTS = {"sum", "min", "max", "sorted", "any", "all"}
+ON_THE_SPOT = {"zip", "enumerate", "reversed", "range"}
+NOT_CHANGING = {"__init__", "__setitem__", "__enter__", "__exit__", "__call__", "__iter__"}
 STATEMENTS_BARRED = (ast.Global, ast.AsyncFunctionDef, ast.AsyncFor, ast.AsyncWith, ast.Await, ast.Div, ast.Import)
 
 
@@ -39,6 +48,67 @@ def bound_names(tree):
 
 def is_special(name):
     return name.startswith("__") and name.endswith("__")
+
+
+def functions_of(trees):
+    """All functions and methods of the package by their names; a class has the name of its __init__, too."""
+    found = {}
+    for tree in trees:
+        for node in ast.walk(tree):
+            if isinstance(node, ast.FunctionDef):
+                found.setdefault(node.name, []).append(node)
+            if isinstance(node, ast.ClassDef):
+                found.setdefault(node.name, []).extend(
+                    row for row in node.body if isinstance(row, ast.FunctionDef) and row.name == "__init__")
+    return found
+
+
+def called_names(function):
+    for node in ast.walk(function):
+        if isinstance(node, ast.Call):
+            yield node.func.id if isinstance(node.func, ast.Name) else node.func.attr
+        elif isinstance(node, ast.Attribute):
+            yield node.attr
+
+
+def made_here(function):
+    """The local variables that a function assigns nothing but what it makes itself."""
+    made, other = set(), {arg.arg for arg in ast.walk(function) if isinstance(arg, ast.arg)}
+    for node in ast.walk(function):
+        if isinstance(node, ast.Assign):
+            for target in node.targets:
+                if isinstance(target, ast.Name):
+                    own = isinstance(node.value, (ast.List, ast.Dict, ast.ListComp, ast.Constant)) or (
+                        isinstance(node.value, ast.Call) and isinstance(node.value.func, ast.Name)
+                        and node.value.func.id in ("list", "dict", "sorted"))
+                    (made if own else other).add(target.id)
+    return made - other
+
+
+def changes_of(function):
+    """The expressions that a function changes: lists, items and attributes."""
+    for node in ast.walk(function):
+        if isinstance(node, ast.Call) and isinstance(node.func, ast.Attribute) and node.func.attr in CHANGING:
+            yield node.func.value
+        elif isinstance(node, (ast.Subscript, ast.Attribute)) and isinstance(node.ctx, (ast.Store, ast.Del)):
+            yield node.value
+        elif isinstance(node, ast.AugAssign):
+            yield node.target
+
+
+def quiet_functions(trees):
+    """The functions that operators, properties, __eq__ and the like call, directly or not (L5), and these."""
+    known = functions_of(trees)
+    waiting = [node for nodes in known.values() for node in nodes
+               if (is_special(node.name) and node.name not in NOT_CHANGING)
+               or "property" in [mark.id for mark in node.decorator_list if isinstance(mark, ast.Name)]]
+    found = []
+    while waiting:
+        now = waiting.pop()
+        if now not in found:
+            found.append(now)
+            waiting.extend(node for name in called_names(now) for node in known.get(name, []))
+    return found
 
 
 class Language(unittest.TestCase):
@@ -89,6 +159,60 @@ class Language(unittest.TestCase):
                     self.assertIn(node.id, BUILTINS, (name, node.lineno))
                 if isinstance(node, ast.Attribute):
                     self.assertNotIn(node.attr, NEVER, (name, node.lineno))
+
+    def test_operators_and_what_they_call_change_nothing(self):
+        trees = [tree for _, _, tree in sources()]
+        quiet = quiet_functions(trees)
+        self.assertGreater(len(quiet), 20)
+        for function in quiet:
+            mine = made_here(function)
+            parameters = {arg.arg for arg in ast.walk(function) if isinstance(arg, ast.arg)}
+            for changed in changes_of(function):
+                self.assertIsInstance(changed, ast.Name, (function.name, changed.lineno))
+                if not (function.name == "__init__" and changed.id == "self"):
+                    self.assertIn(changed.id, mine, (function.name, changed.lineno))
+            for node in ast.walk(function):
+                if isinstance(node, ast.Call) and isinstance(node.func, ast.Name):
+                    self.assertNotIn(node.func.id, parameters - {"cls"}, function.name)
+
+    def test_tables_are_only_read(self):
+        for name, _, tree in sources():
+            tables = {node.targets[0].id for node in tree.body if isinstance(node, ast.Assign)}
+            for changed in changes_of(tree):
+                self.assertFalse(isinstance(changed, ast.Name) and changed.id in tables, (name, changed.lineno))
+
+    def test_methods(self):
+        own = functions_of([tree for _, _, tree in sources()])
+        for name, _, tree in sources():
+            for node in ast.walk(tree):
+                if isinstance(node, ast.Call) and isinstance(node.func, ast.Attribute):
+                    self.assertTrue(node.func.attr in METHODS or node.func.attr in own, (name, node.lineno))
+
+    def test_calls_of_builtins(self):
+        for name, _, tree in sources():
+            stored = [node.value for node in ast.walk(tree) if isinstance(node, (ast.Assign, ast.Return))]
+            for node in ast.walk(tree):
+                if isinstance(node, ast.Call) and isinstance(node.func, ast.Name):
+                    if node.func.id in WHOLE_LISTS:
+                        self.assertNotIsInstance(node.args[0], ast.GeneratorExp, (name, node.lineno))
+                    if node.func.id in ON_THE_SPOT:
+                        self.assertNotIn(node, stored, (name, node.lineno))
+                if isinstance(node, ast.Call):
+                    for argument in node.args:
+                        self.assertFalse(isinstance(argument, ast.Starred)
+                                         and not isinstance(argument.value, (ast.Name, ast.Attribute)), name)
+
+    def test_names_of_classes_and_imports_mean_nothing_else(self):
+        for name, _, tree in sources():
+            taken = {row.name for row in tree.body if isinstance(row, ast.ClassDef)}
+            taken |= {alias.name for row in tree.body if isinstance(row, ast.ImportFrom) for alias in row.names}
+            inner = [node for row in tree.body if isinstance(row, (ast.FunctionDef, ast.ClassDef))
+                     for node in ast.walk(row)]
+            for node in inner:
+                if isinstance(node, ast.arg):
+                    self.assertNotIn(node.arg, taken, name)
+                if isinstance(node, ast.Name) and isinstance(node.ctx, ast.Store):
+                    self.assertNotIn(node.id, taken, name)
 
     def test_no_name_is_a_method_and_an_attribute(self):
         methods, attributes = set(), set()
