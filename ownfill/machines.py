@@ -1,6 +1,6 @@
 """Machines: they read a text letter by letter and give an answer, and each one is the least with its answers."""
 
-from ownfill.rooms import check_rooms, leading_rooms, least_rooms, paired_rooms
+from ownfill.rooms import check_rooms, leading_rooms, least_rooms, paired_rooms, room_sources, text_to
 from ownfill.turns import check_letters, check_same_letters, check_text
 
 
@@ -98,8 +98,9 @@ class Machine:
 
     def least_text(self, answer):
         """The first text with an answer, or None."""
-        for text in self.texts(answer, many=1):
-            return text
+        for room, told in enumerate(self.told):
+            if told == answer:
+                return text_to(room_sources(self.alphabet, self.ways), room)
         return None
 
     def count(self, answer, size):

@@ -122,3 +122,26 @@ def paired_rooms(rows, others):
             row.append(numbers[pair])
         made.append(row)
     return pairs, made
+
+
+def room_sources(letters, rows):
+    """For each room behind the first one, the room and the letter with which the least text that leads to it ends.
+
+    The rooms are numbered in the order of these texts.
+    """
+    sources = {}
+    for source, row in enumerate(rows):
+        for letter, target in zip(letters, row):
+            if target > 0 and target not in sources:
+                sources[target] = (source, letter)
+    return sources
+
+
+def text_to(sources, room):
+    """The least text that leads to a room."""
+    text = ""
+    now = room
+    while now > 0:
+        now, letter = sources[now]
+        text = letter + text
+    return text

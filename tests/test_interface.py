@@ -6,11 +6,13 @@ import inspect
 import pathlib
 import unittest
 
-from ownfill import comparing, conditions, machines, patterns, rooms, templates, turns
+from ownfill import chains, comparing, conditions, machines, patterns, programs, rooms, running, templates, turns, values
 from ownfill.machines import Machine
+from ownfill.running import Run
 from ownfill.templates import Template
+from ownfill.values import Values
 
-MODULES = [turns, templates, rooms, machines, comparing, patterns, conditions]
+MODULES = [turns, templates, rooms, machines, comparing, patterns, conditions, programs, running, chains, values]
 TWO = "(one, other)"
 FUNCTIONS = {
     "turns": {
@@ -30,6 +32,19 @@ FUNCTIONS = {
         "parse_condition": "(letters, text)", "format_condition": "(condition)", "condition_names": "(condition)",
         "condition_machine": "(letters, condition)", "condition_holds": "(letters, condition, text)",
     },
+    "programs": {
+        "parse_program": "(letters, text)", "format_program": "(program)", "program_names": "(program)",
+        "nodes_of": "(program)",
+    },
+    "chains": {
+        "fills_size": "(letters, fills)", "fills_template": "(letters, fills, *, limit=400)",
+        "fills_letter": "(letters, fills, text, place)",
+    },
+    "values": {"pulled": "(machine, template)"},
+}
+NUMBERS = {
+    "turns": {"MOST_LETTERS": 4}, "conditions": {"MOST_MODULUS": 60}, "running": {"MOST_TEXT": 10000},
+    "chains": {"MOST_PARTS": 400}, "values": {"MOST_VALUES": 2000},
 }
 METHODS = {
     Template: {
@@ -44,13 +59,25 @@ METHODS = {
         "__and__": "(self, other)", "__or__": "(self, other)", "__invert__": "(self)", "__eq__": "(self, other)",
         "__len__": "(self)", "__repr__": "(self)",
     },
+    Run: {
+        "__init__": "(self, letters, program, text)", "step": "(self)", "back": "(self)", "go": "(self, many)",
+        "__repr__": "(self)",
+    },
+    Values: {
+        "__init__": "(self, letters, conditions, turns=(), *, limit=2000)", "value_of": "(self, text)",
+        "first_text": "(self, value)", "holds": "(self, value)", "filled": "(self, fill, value)",
+        "machine_with": "(self, answers)", "__len__": "(self)", "__repr__": "(self)",
+    },
 }
 CLASS_METHODS = {
     Template: {"fixed": "(cls, letters, text)", "blank": "(cls, letters, *, turn=None)"},
     Machine: {"always": "(cls, letters)", "never": "(cls, letters)", "only": "(cls, letters, text)"},
 }
-PROPERTIES = {Template: ["letters", "blanks", "size"], Machine: ["letters"]}
-HOMES = {Template: "ownfill.templates", Machine: "ownfill.machines"}
+PROPERTIES = {
+    Template: ["letters", "blanks", "size"], Machine: ["letters"], Run: ["present", "state", "word", "steps"],
+    Values: ["letters"],
+}
+HOMES = {Template: "templates", Machine: "machines", Run: "running", Values: "values"}
 
 EXAMPLES = """
 >>> from ownfill.templates import Template
@@ -62,6 +89,10 @@ EXAMPLES = """
 >>> one, other = Template('ab', 'ab{}'), Template('ab', '{}ab')
 >>> [comparison(one, other).answer('b'), list(equal_texts(one, other).texts(True, many=4))]
 ['less', ['', 'ab', 'abab', 'ababab']]
+
+>>> from ownfill.programs import parse_program
+>>> parse_program('ab', 'while not begins(a{},{}a) [fill {ba}a]; skip')
+('block', ('while', ('not', ('begins', 'a{}', '{}a')), ('fill', '{ba}a')), ('skip',))
 """
 
 
@@ -74,13 +105,18 @@ class Interface(unittest.TestCase):
                 self.assertEqual((function, str(inspect.signature(found))), (function, wanted))
                 self.assertEqual(found.__module__, "ownfill." + name)
 
+    def test_numbers(self):
+        for name, numbers in NUMBERS.items():
+            for number, wanted in numbers.items():
+                self.assertEqual(getattr(importlib.import_module("ownfill." + name), number), wanted)
+
     def test_classes_have_their_own_methods(self):
         for made, methods in METHODS.items():
-            self.assertEqual(made.__module__, HOMES[made])
+            self.assertEqual(made.__module__, "ownfill." + HOMES[made])
             own = vars(made)
             for name, wanted in methods.items():
                 self.assertEqual((name, str(inspect.signature(own[name]))), (name, wanted))
-            for name, wanted in CLASS_METHODS[made].items():
+            for name, wanted in CLASS_METHODS.get(made, {}).items():
                 self.assertIsInstance(own[name], classmethod)
                 self.assertEqual((name, str(inspect.signature(own[name].__func__))), (name, wanted))
             for name in PROPERTIES[made]:
