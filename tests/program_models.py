@@ -6,7 +6,7 @@ Everything is done here with the texts themselves; nothing but the random source
 import re
 
 from tests.models import model_condition_text, model_names, model_word, some_condition
-from tests.samples import model_fill, model_text, some_items
+from tests.samples import all_turns, model_fill, model_text, some_items
 
 LEAVES = ["skip", "fill", "fill", "fill", "fail"]
 NAMES = ["a", "b", "loop", "if", "while", "skip", "fill", "call", "abcdefgh", "zz"]
@@ -209,3 +209,9 @@ def agrees(own, found):
     if own[0] != "open":
         return own == found
     return found[0] in ("endless", "fails") or found[1][:len(own[1])] == own[1]
+
+
+def some_turn_of(random, letters):
+    """A blank with a turn, in its shortest form."""
+    turn = random.choice(all_turns(letters))
+    return "{}" if turn == letters else "{" + turn + "}"

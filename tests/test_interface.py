@@ -6,13 +6,15 @@ import inspect
 import pathlib
 import unittest
 
-from ownfill import chains, comparing, conditions, machines, patterns, programs, rooms, running, templates, turns, values
+from ownfill.books import Book
+from ownfill.games import Game
 from ownfill.machines import Machine
 from ownfill.running import Run
+from ownfill.tables import Table
 from ownfill.templates import Template
 from ownfill.values import Values
 
-MODULES = [turns, templates, rooms, machines, comparing, patterns, conditions, programs, running, chains, values]
+PACKAGE = pathlib.Path(__file__).parent.parent / "ownfill"
 TWO = "(one, other)"
 FUNCTIONS = {
     "turns": {
@@ -41,10 +43,15 @@ FUNCTIONS = {
         "fills_letter": "(letters, fills, text, place)",
     },
     "values": {"pulled": "(machine, template)"},
+    "tables": {
+        "compiled": "(letters, program, *, limit=2000)", "parted": "(one, other, *, limit=400)",
+        "moment_texts": "(letters, program, condition, *, again=False, limit=2000)",
+    },
+    "asking": {"question": "(letters, size)", "read_template": "(letters, size, answer)"},
 }
 NUMBERS = {
     "turns": {"MOST_LETTERS": 4}, "conditions": {"MOST_MODULUS": 60}, "running": {"MOST_TEXT": 10000},
-    "chains": {"MOST_PARTS": 400}, "values": {"MOST_VALUES": 2000},
+    "chains": {"MOST_PARTS": 400}, "values": {"MOST_VALUES": 2000}, "books": {"MOST_NAMES": 12},
 }
 METHODS = {
     Template: {
@@ -68,6 +75,22 @@ METHODS = {
         "first_text": "(self, value)", "holds": "(self, value)", "filled": "(self, fill, value)",
         "machine_with": "(self, answers)", "__len__": "(self)", "__repr__": "(self)",
     },
+    Table: {
+        "rows": "(self)", "outcome": "(self, text)", "result": "(self, text)", "ending": "(self)", "endless": "(self)",
+        "failing": "(self, *, word=None)", "before": "(self, machine)", "sources": "(self, text)",
+        "most_fills": "(self)", "__eq__": "(self, other)", "__len__": "(self)", "__repr__": "(self)",
+    },
+    Game: {
+        "__init__": "(self, letters, rules, goal, *, limit=2000)", "winning": "(self)", "moves": "(self, text)",
+        "choice": "(self, text)", "__len__": "(self)", "__repr__": "(self)",
+    },
+    Book: {
+        "__init__": "(self, letters, *, capacity=12)", "set_capacity": "(self, most)", "apply": "(self, *commands)",
+        "undo": "(self)", "redo": "(self)", "history": "(self)", "names": "(self, *, kind=None)",
+        "kind_of": "(self, name)", "text_of": "(self, name)", "users": "(self, name)", "meaning": "(self, name)",
+        "table": "(self, name, *, limit=2000)", "start": "(self, name, text)", "twin": "(self)",
+        "__contains__": "(self, name)", "__eq__": "(self, other)", "__len__": "(self)", "__repr__": "(self)",
+    },
 }
 CLASS_METHODS = {
     Template: {"fixed": "(cls, letters, text)", "blank": "(cls, letters, *, turn=None)"},
@@ -75,9 +98,10 @@ CLASS_METHODS = {
 }
 PROPERTIES = {
     Template: ["letters", "blanks", "size"], Machine: ["letters"], Run: ["present", "state", "word", "steps"],
-    Values: ["letters"],
+    Values: ["letters"], Table: ["letters"], Game: ["letters"], Book: ["letters", "capacity", "computed"],
 }
-HOMES = {Template: "templates", Machine: "machines", Run: "running", Values: "values"}
+HOMES = {Template: "templates", Machine: "machines", Run: "running", Values: "values", Table: "tables", Game: "games",
+         Book: "books"}
 
 EXAMPLES = """
 >>> from ownfill.templates import Template
@@ -93,6 +117,11 @@ EXAMPLES = """
 >>> from ownfill.programs import parse_program
 >>> parse_program('ab', 'while not begins(a{},{}a) [fill {ba}a]; skip')
 ('block', ('while', ('not', ('begins', 'a{}', '{}a')), ('fill', '{ba}a')), ('skip',))
+
+>>> from ownfill.tables import compiled
+>>> table = compiled('ab', parse_program('ab', 'while not length(0,3) [fill {}{}a]'))
+>>> [table.outcome('ab'), table.outcome('abab'), len(table)]
+[('endless',), ('ends', ['{}{}a']), 3]
 """
 
 
@@ -131,12 +160,16 @@ class Interface(unittest.TestCase):
     def test_the_examples_of_the_document(self):
         self.run_examples(EXAMPLES, "DOC.md")
 
+    def test_the_number_of_hands(self):
+        self.assertEqual(vars(Game)["HANDS"], 2)
+
     def test_the_examples_of_the_readme(self):
         readme = pathlib.Path(__file__).parent.parent / "README.md"
         self.run_examples(readme.read_text(encoding="utf-8").replace("```", ""), "README.md")
 
     def test_the_modules_keep_no_lists(self):
-        for module in MODULES:
+        for path in sorted(PACKAGE.glob("*.py")):
+            module = importlib.import_module("ownfill." + path.stem)
             for name, value in vars(module).items():
                 if not name.startswith("__"):
                     self.assertNotIsInstance(value, (list, set), name)

@@ -40,8 +40,8 @@ class Texts(unittest.TestCase):
     def test_known_texts(self):
         yes = ("match", "a*")
         cases = {
-            "skip": ("skip",), "fill -": ("fill", "-"), "fill a{ab}{ba}": ("fill", "a{}{ba}"), "fail no": ("fail", "no"),
-            "fail skip": ("fail", "skip"), "call while": ("call", "while"), "fail abcdefgh": ("fail", "abcdefgh"),
+            "skip": ("skip",), "fill -": ("fill", "-"), "fill a{ab}{ba}": ("fill", "a{}{ba}"),
+            "fail no": ("fail", "no"), "fail skip": ("fail", "skip"), "call while": ("call", "while"), "fail abcdefgh": ("fail", "abcdefgh"),
             "skip; skip": ("block", ("skip",), ("skip",)),
             "skip; fill a; call x": ("block", ("skip",), ("fill", "a"), ("call", "x")),
             "if match(a*) [skip] [fail x]": ("if", yes, ("skip",), ("fail", "x")),
