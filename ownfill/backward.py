@@ -1,7 +1,7 @@
 """Backward: from what a chain of fills must end with to the texts that it must begin with."""
 
 from ownfill.chains import read_fills
-from ownfill.machines import Machine
+from ownfill.machines import explored
 from ownfill.templates import Template, is_blank
 from ownfill.turns import turned, undone
 from ownfill.values import pulled
@@ -59,13 +59,25 @@ def source_of(template, text):
     return source if template.fill(source) == text else None
 
 
-def sources_machine(letters, fills, text):
-    """The machine that answers True for the texts of which a chain of fills makes a text."""
+def chain_sources(letters, fills, text):
+    """The list of the texts of which a chain of fills makes a text: one or none; None if it makes it of all texts."""
     source = text
     for template in reversed(read_fills(letters, fills)):
         if template.blanks == 0:
-            return Machine.always(letters) if template.fill("") == source else Machine.never(letters)
+            return None if template.fill("") == source else []
         source = source_of(template, source)
         if source is None:
-            return Machine.never(letters)
-    return Machine.only(letters, source)
+            return []
+    return [source]
+
+
+def texts_machine(letters, texts):
+    """The machine that answers True for some texts alone."""
+    wanted = {text: True for text in texts}
+    beginnings = {text[:size]: True for text in wanted for size in range(len(text) + 1)}
+
+    def step(beginning, place):
+        longer = None if beginning is None else beginning + letters[place]
+        return longer if longer in beginnings else None
+
+    return explored(letters, "", step, lambda beginning: beginning in wanted)

@@ -68,27 +68,36 @@ def without(rooms, gone):
     return [room for room in rooms if room not in left_out]
 
 
+def members_of(members, classes, number):
+    """The rooms of a class; its list may still have some that have gone to other classes, so that few are touched."""
+    return [room for room in members[number] if classes[room] == number]
+
+
 def alike_classes(rows, answers):
     """For each room the number of its class: rooms of a class cannot be told apart, however a text goes on."""
     classes = list(numbered(answers))
     members = [rooms for number, rooms in grouped(sorted([(kind, room) for room, kind in enumerate(classes)]))]
+    sizes = [len(rooms) for rooms in members]
     leading = [leading_rooms(rows, place) for place in range(len(rows[0]))]
     waiting = list(range(len(members)))
     while waiting:
-        targets = members[waiting.pop()]
+        targets = members_of(members, classes, waiting.pop())
         for sources in leading:
             groups = hit_groups(sources, targets, classes)
             for number, hit in groups:
-                missed = without(members[number], hit)
-                if len(missed) == 0:
+                if len(hit) == sizes[number]:
                     continue
                 # What the larger part would still split, the smaller one and the former whole split as well.
-                small, large = (hit, missed) if len(hit) < len(missed) else (missed, hit)
+                small = hit
+                if 2 * len(hit) > sizes[number]:
+                    small = without(members_of(members, classes, number), hit)
+                    members[number] = hit
                 for room in small:
                     classes[room] = len(members)
+                sizes[number] = sizes[number] - len(small)
                 waiting.append(len(members))
-                members[number] = large
                 members.append(small)
+                sizes.append(len(small))
     return classes
 
 

@@ -1,10 +1,11 @@
 """Tables: what a program does with every text."""
 
-from ownfill.backward import Pulls, sources_machine
-from ownfill.chains import MOST_PARTS, fills_template, fills_text
+from ownfill.backward import Pulls, chain_sources, texts_machine
+from ownfill.chains import MOST_PARTS, fills_size, fills_template, fills_text
 from ownfill.comparing import equal_texts
 from ownfill.conditions import check_no_names
 from ownfill.courses import Course
+from ownfill.errors import TooLong
 from ownfill.machines import Machine, mapped
 from ownfill.programs import check_nameless
 from ownfill.rooms import paired_rooms, room_sources, text_to
@@ -161,12 +162,14 @@ class Table:
     def sources(self, text):
         """The machine that answers True for the texts on which the program ends with this text."""
         check_text(self.alphabet, text)
-        found = never = Machine.never(self.alphabet)
+        whole, single = [], []
         for row in self.ending_rows():
-            origins = sources_machine(self.alphabet, self.outcomes[row][1], text)
-            if origins != never:
-                found = found | (self.row_machine([row]) & origins)
-        return found
+            origins = chain_sources(self.alphabet, self.outcomes[row][1], text)
+            if origins is None:
+                whole.append(row)
+            else:
+                single.extend([origin for origin in origins if self.finder.answer(origin) == str(row)])
+        return self.row_machine(whole) | texts_machine(self.alphabet, single)
 
     def most_fills(self):
         """The greatest number of fills with which the program ends, and the least text for it, or None."""
@@ -208,14 +211,18 @@ def unlike_rooms(told):
     return rooms
 
 
-def compared_templates(letters, pairs, limit):
-    """The templates of all chains of fills that some pairs of outcomes compare."""
+def check_chains(letters, pairs, limit):
+    """Raises TooLong if one of the chains of fills that some pairs of outcomes compare makes too large a template."""
     chains = {chain: True for outcomes in pairs if both_end(outcomes) for kind, chain in outcomes}
-    return {chain: fills_template(letters, chain, limit=limit) for chain in chains}
+    for chain in chains:
+        blanks, size = fills_size(letters, chain)
+        if blanks + size > limit:
+            raise TooLong(limit)
 
 
-def unlike_text(letters, ways, rooms, one, other):
-    """The least text that leads to one of some rooms and with which two templates do not give the same, or None."""
+def unlike_text(letters, ways, rooms, chains, limit):
+    """The least text that leads to one of some rooms and of which two chains of fills do not make the same, or None."""
+    one, other = [fills_template(letters, chain, limit=limit) for chain in chains]
     if one == other:
         return None
     alike = equal_texts(one, other)
@@ -239,7 +246,7 @@ def parted(one, other, *, limit=MOST_PARTS):
     check_same_letters(letters, other.letters)
     ways, told = common_rooms(one, other)
     rooms = unlike_rooms(told)
-    templates = compared_templates(letters, list(rooms), limit)
+    check_chains(letters, list(rooms), limit)
     sources = room_sources(letters, ways)
     best = None
     for outcomes in rooms:
@@ -248,8 +255,7 @@ def parted(one, other, *, limit=MOST_PARTS):
             # This text is the least one with these outcomes, and those with the outcomes that follow come behind it.
             return best
         if both_end(outcomes):
-            first, second = outcomes
-            found = unlike_text(letters, ways, rooms[outcomes], templates[first[1]], templates[second[1]])
+            found = unlike_text(letters, ways, rooms[outcomes], [chain for kind, chain in outcomes], limit)
         if found is not None:
             best = found if best is None else least_of(letters, [best, found])
     return best
@@ -281,8 +287,10 @@ def value_moments(course, again):
 
 
 def moment_texts(letters, program, condition, *, again=False, limit=MOST_VALUES):
-    """The machine that answers True for the texts whose run has a moment at which a condition holds, or, with again,
-    endlessly many."""
+    """The machine that answers True for the texts whose run has a moment at which a condition holds.
+
+    With again it answers True for those whose run has endlessly many such moments.
+    """
     check_letters(letters)
     check_nameless(program)
     check_no_names(condition)

@@ -86,6 +86,9 @@ def numbered_rows(width, start, step, limit):
 
 def map_rows(machine, limit):
     """The rows of the maps that texts make of the rooms of a machine: each text leads from each room to a room."""
+    # Texts that lead to different rooms have different values, so too many rooms need not be followed.
+    if len(machine) > limit:
+        raise TooMany(limit)
     rows = machine.rows()
     columns = [[row[place] for row in rows] for place in range(len(machine.letters))]
 

@@ -8,7 +8,8 @@ from ownfill.programs import parse_program
 USES = re.compile(r"\b(named|call) ([a-z]+)")
 GOOD = {
     "condition": ["match(a*)", "length(1,3)", "same({ab},{ba})", "not less(a{},{}a)", "named {0}",
-                  "(named {0} or named {1})", "not (match(b) and named {0})", "(named {1} and (named {0} or named {1}))"],
+                  "(named {0} or named {1})", "not (match(b) and named {0})",
+                  "(named {1} and (named {0} or named {1}))"],
     "program": ["skip", "fill {ab}{}a", "fail no", "call {0}", "call {0}; call {1}", "while named {0} [fill {ba}]",
                 "if named {1} [call {0}] [skip; fill b{}]", "if (named {0} and length(0,2)) [call {2}] [call {1}]",
                 "while not length(0,3) [fill {}b]", "fill a{}; while (match(b.*) or named {2}) [call {1}; fill {ba}]"],

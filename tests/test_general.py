@@ -71,7 +71,8 @@ RAISED = {
         (lambda: games.Game("ab", [], ("length", 0, 3), limit=0), 0), (lambda: full_book().table("p", limit=1), 1)]),
     "NoTemplate": (None, [(lambda: asking.read_template("ab", 0, "a"), None)]),
     "InvalidName": ("name", [
-        (lambda: full_book().apply(("condition", "C", "??")), "C"), (lambda: full_book().apply(("rename", "c", "")), "")]),
+        (lambda: full_book().apply(("condition", "C", "??")), "C"),
+        (lambda: full_book().apply(("rename", "c", "")), "")]),
     "WrongKind": ("name", [
         (lambda: full_book().apply(("condition", "p", "??")), "p"), (lambda: full_book().table("c", limit=0), "c"),
         (lambda: full_book().start("c", "?"), "c"), (lambda: full_book().apply(("program", "q", "call c")), "c")]),
@@ -119,17 +120,19 @@ class Errors(unittest.TestCase):
 
 class Questions(unittest.TestCase):
     def ask(self, letters, program, condition, text):
-        """Many questions, all with new objects; what is returned is spoilt behind it, so that shared lists would show."""
+        """Many questions, all with new objects; the lists that are returned are spoilt afterwards."""
         table = tables.compiled(letters, program, limit=500)
         asked = values.Values(letters, [condition, ALWAYS], [letters[::-1]], limit=500)
-        game = games.Game(letters, [(condition, 0, ["{}" + letters[0], letters]), (ALWAYS, 1, ["{}"])], ("length", 0, 2))
+        rules = [(condition, 0, ["{}" + letters[0], letters]), (ALWAYS, 1, ["{}"])]
+        game = games.Game(letters, rules, ("length", 0, 2))
         run = running.Run(letters, program, text)
         run.go(3)
         lists = [table.rows(), asked.holds(0), list(programs.nodes_of(program)), programs.program_names(program),
                  conditions.condition_names(condition), templates.Template(letters, "{}").row()]
         rest = [table.outcome(text), table.most_fills(), table.ending(), table.endless(), table.failing(),
-                table.before(machines.Machine.only(letters, text)), table.sources(text), asked.value_of(text), len(asked),
-                asked.filled("{}{}", 0), asked.machine_with(["x"] * len(asked)), game.winning(), game.moves(text),
+                table.before(machines.Machine.only(letters, text)), table.sources(text), asked.value_of(text),
+                len(asked), asked.filled("{}{}", 0), asked.machine_with(["x"] * len(asked)),
+                game.winning(), game.moves(text),
                 game.choice(text), run.present, run.state, run.steps, repr(run), asking.question(letters, 2),
                 tables.moment_texts(letters, program, condition), tables.parted(table, table)]
         told = [list(found) for found in lists] + rest

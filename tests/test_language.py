@@ -214,6 +214,59 @@ class Language(unittest.TestCase):
                 if isinstance(node, ast.Name) and isinstance(node.ctx, ast.Store):
                     self.assertNotIn(node.id, taken, name)
 
+    def test_imports_name_the_file_that_defines_them_and_lead_in_no_circle(self):
+        trees = {name.removesuffix(".py"): tree for name, _, tree in sources()}
+        homes = {name: {row.name for row in tree.body if isinstance(row, (ast.FunctionDef, ast.ClassDef))}
+                 | {row.targets[0].id for row in tree.body if isinstance(row, ast.Assign)}
+                 for name, tree in trees.items()}
+        needs = {}
+        for name, tree in trees.items():
+            needs[name] = set()
+            for row in tree.body:
+                if isinstance(row, ast.ImportFrom):
+                    home = row.module.removeprefix("ownfill.")
+                    needs[name].add(home)
+                    for alias in row.names:
+                        self.assertIn(alias.name, homes[home], name)
+                        self.assertIsNone(alias.asname)
+        while needs:
+            free = [name for name in needs if not needs[name] & set(needs)]
+            self.assertTrue(free, sorted(needs))
+            for name in free:
+                del needs[name]
+
+    def test_imported_names_are_used(self):
+        for name, _, tree in sources():
+            used = {node.id for node in ast.walk(tree) if isinstance(node, ast.Name)}
+            for row in tree.body:
+                if isinstance(row, ast.ImportFrom):
+                    for alias in row.names:
+                        self.assertIn(alias.name, used, name)
+
+    def test_what_special_methods_return(self):
+        for name, _, tree in sources():
+            for node in ast.walk(tree):
+                if isinstance(node, ast.FunctionDef) and node.name in ("__len__", "__repr__", "__str__"):
+                    self.assertIsInstance(node.body[-1], ast.Return)
+                    for row in ast.walk(node):
+                        if isinstance(row, ast.Return):
+                            calls = ("len",) if node.name == "__len__" else ("str", "repr")
+                            told = isinstance(row.value, ast.Call) and row.value.func.id in calls
+                            self.assertTrue(told or isinstance(row.value, ast.JoinedStr), (name, node.name))
+
+    def test_generators_have_names_of_their_own(self):
+        known = functions_of([tree for _, _, tree in sources()])
+        for name, nodes in known.items():
+            if any(isinstance(row, (ast.Yield, ast.YieldFrom)) for node in nodes for row in ast.walk(node)):
+                self.assertEqual(len(nodes), 1, name)
+
+    def test_is_only_with_none_and_truths(self):
+        for name, _, tree in sources():
+            for node in ast.walk(tree):
+                if isinstance(node, ast.Compare) and isinstance(node.ops[0], (ast.Is, ast.IsNot)):
+                    self.assertTrue(isinstance(node.comparators[0], ast.Constant)
+                                    and node.comparators[0].value in (None, True, False), (name, node.lineno))
+
     def test_no_name_is_a_method_and_an_attribute(self):
         methods, attributes = set(), set()
         for _, _, tree in sources():

@@ -41,7 +41,8 @@ class Texts(unittest.TestCase):
         yes = ("match", "a*")
         cases = {
             "skip": ("skip",), "fill -": ("fill", "-"), "fill a{ab}{ba}": ("fill", "a{}{ba}"),
-            "fail no": ("fail", "no"), "fail skip": ("fail", "skip"), "call while": ("call", "while"), "fail abcdefgh": ("fail", "abcdefgh"),
+            "fail no": ("fail", "no"), "fail skip": ("fail", "skip"),
+            "call while": ("call", "while"), "fail abcdefgh": ("fail", "abcdefgh"),
             "skip; skip": ("block", ("skip",), ("skip",)),
             "skip; fill a; call x": ("block", ("skip",), ("fill", "a"), ("call", "x")),
             "if match(a*) [skip] [fail x]": ("if", yes, ("skip",), ("fail", "x")),
