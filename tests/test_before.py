@@ -3,7 +3,7 @@
 import unittest
 
 from ownfill.chains import fills_size
-from ownfill.errors import LettersDiffer
+from ownfill.errors import LettersDiffer, UnknownLetter
 from ownfill.machines import Machine
 from ownfill.programs import parse_program
 from ownfill.tables import compiled
@@ -61,8 +61,9 @@ class Before(unittest.TestCase):
     def test_other_letters(self):
         table = compiled("ab", ("skip",))
         for letters in ("ba", "abc", "xy"):
-            with self.assertRaises(LettersDiffer):
-                table.before(Machine.always(letters))
+            for made in (table, compiled("ab", ("fail", "x"))):
+                with self.assertRaises(LettersDiffer):
+                    made.before(Machine.always(letters))
 
 
 class Sources(unittest.TestCase):
@@ -105,6 +106,13 @@ class Sources(unittest.TestCase):
         self.assertEqual(compiled("ab", ("fill", "{}{ba}")).sources(""), Machine.only("ab", ""))
         self.assertEqual(compiled("ab", ("skip",)).sources("abba"), Machine.only("ab", "abba"))
         self.assertEqual(compiled("ab", ("fail", "x")).sources("abba"), Machine.never("ab"))
+
+    def test_unknown_letters(self):
+        for program in (("skip",), ("fail", "x"), ("fill", "a"), ("while", ("match", ".*"), ("skip",))):
+            for text, position in (("c", 0), ("abc", 2)):
+                with self.assertRaises(UnknownLetter) as caught:
+                    compiled("ab", program).sources(text)
+                self.assertEqual(caught.exception.position, position)
 
 
 class MostFills(unittest.TestCase):

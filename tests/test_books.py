@@ -128,6 +128,21 @@ class Commands(Checked):
         ])
         self.assertEqual(book.history(), (1, 0))
 
+    def test_circles_of_many_names(self):
+        for many in range(2, 12):
+            names = NAMES[:many]
+            for kind, first, using in (("condition", "match(a)", "named "), ("program", "skip", "call ")):
+                book = Book("ab")
+                book.apply((kind, names[0], first), *((kind, new, using + old) for old, new in zip(names, names[1:])))
+                wanted = ("CircularName", names[0])
+                self.check_errors(book, [((kind, names[0], using + name), wanted) for name in names])
+                book.apply((kind, names[-1], first), (kind, names[0], using + names[-1]))
+                self.assertEqual(book.meaning(names[0]), book.meaning(names[-1]))
+        book = Book("ab")
+        book.apply(("condition", "c", "match(a)"), ("program", "p", "while named c [skip]"), ("program", "q", "call p"),
+                   ("program", "r", "if named c [call q] [call p]"))
+        self.check_errors(book, [(("program", "p", "if named c [skip] [call r]"), ("CircularName", "p"))])
+
     def test_the_least_user(self):
         book = Book("ab")
         book.apply(("condition", "c", "match(a)"), ("program", "z", "while named c [skip]"),
